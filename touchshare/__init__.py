@@ -1,0 +1,1 @@
+"""Touchshare: who is credited for a sale."""
