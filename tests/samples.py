@@ -77,3 +77,19 @@ def rule_with(**parts):
     """An ordinary rule with some parts changed."""
     names = ("kinds", "window", "gap", "weak", "once", "pick", "shares")
     return tuple(parts.get(name, part) for name, part in zip(names, EVEN))
+
+FOUR = ("a", "b", "c", "d")
+
+# Of FOUR kinds, of which each of the last four counts: 340 * (WINDOW + 2) + 2 STANDINGS.
+GREAT = (FOUR, 56, None, (), "all", ("last", 4), ("even",))
+TOO_GREAT = (FOUR, 57, None, (), "all", ("last", 4), ("even",))
+
+
+def wrong_rules():
+    """Pairs of what is no rule, and of the part that is told."""
+    return [
+        (None, "form"), (EVEN[:6], "form"), (list(EVEN), "form"), (rule_with(kinds=()), "kinds"),
+        (rule_with(window=61), "window"), (rule_with(window=True), "window"), (rule_with(gap=25), "gap"),
+        (rule_with(weak=("no",)), "weak"), (rule_with(once="any"), "once"), (rule_with(pick=("last", 5)), "pick"),
+        (rule_with(shares=("odd",)), "shares"), (rule_with(window=-1, shares=()), "window"),
+    ]

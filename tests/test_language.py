@@ -82,6 +82,31 @@ class Source(unittest.TestCase):
                     self.assertNotIn(name, BARRED)
                     self.assertFalse(hasattr(builtins, name), name)
 
+    def test_nothing_is_made_bit_by_bit(self):
+        for path, text in parsed_files():
+            for node in ast.walk(ast.parse(text)):
+                with self.subTest(path.name):
+                    self.assertNotIsInstance(node, (ast.GeneratorExp, ast.Yield, ast.YieldFrom))
+                    # A class has __eq__ and __len__: lists are sorted anew.
+                    self.assertFalse(isinstance(node, ast.Attribute) and node.attr == "sort")
+
+    def test_there_are_properties_and_no_other_decorators(self):
+        for path, text in parsed_files():
+            for node in ast.walk(ast.parse(text)):
+                for decorator in getattr(node, "decorator_list", []):
+                    with self.subTest(path.name):
+                        self.assertEqual(ast.unparse(decorator), "property")
+
+    def test_no_name_is_a_property_and_an_attribute(self):
+        properties, assigned = set(), set()
+        for _, text in parsed_files():
+            for node in ast.walk(ast.parse(text)):
+                if isinstance(node, ast.FunctionDef) and node.decorator_list:
+                    properties.add(node.name)
+                elif isinstance(node, ast.Attribute) and isinstance(node.ctx, ast.Store):
+                    assigned.add(node.attr)
+        self.assertEqual(properties & assigned, set())
+
     def test_there_are_no_floats_and_no_outside_state(self):
         for path, text in parsed_files():
             for node in ast.walk(ast.parse(text)):

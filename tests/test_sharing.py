@@ -7,6 +7,7 @@ import random
 import unittest
 from fractions import Fraction
 
+from tests.reckoning import as_pair, random_journey, random_rule, told_credited, told_credits, told_reached
 from tests.samples import EVEN, odd_things, rule_with
 from touchshare.errors import BadJourney, BadRule
 from touchshare.sharing import all_given, credited, kind_credits, reached, touch_credits
@@ -26,76 +27,6 @@ def of_kinds(letters, age=0):
     """A journey of touches at one hour, each kind told by its first letter."""
     names = {"a": "ad", "d": "direct", "m": "mail"}
     return tuple((names[letter], age) for letter in letters)
-
-
-# The second reckoning follows the words of the document one by one, by sets and by Python's own fractions.
-
-def told_reached(rule, journey):
-    found = []
-    for number, (_, age) in enumerate(journey):
-        hours = [0] + [later[1] for later in reversed(journey[number:])]
-        near = rule[1] is None or age <= rule[1]
-        if near and all(rule[2] is None or back - ahead <= rule[2] for ahead, back in itertools.pairwise(hours)):
-            found.append(number)
-    return tuple(found)
-
-
-def told_credited(rule, journey):
-    _, _, _, weak, once, (end, many), _ = rule
-    near = told_reached(rule, journey)
-    count = {number for number in near if journey[number][0] not in weak} or set(near)
-    alone = {"first": min, "last": max}
-    stay = {
-        number for number in count
-        if once == "all" or number == alone[once](n for n in count if journey[n][0] == journey[number][0])
-    }
-    order = sorted(stay, reverse=end == "last")
-    return tuple(sorted(order[:many]))
-
-
-def told_credits(rule, journey):
-    chosen = told_credited(rule, journey)
-    shares = rule[6]
-    found = [Fraction(0)] * len(journey)
-    for place, number in enumerate(chosen):
-        if shares[0] == "even":
-            found[number] = Fraction(1, len(chosen))
-        elif shares[0] == "places":
-            found[number] = Fraction(shares[1][len(chosen) - 1][place], 100)
-        else:
-            weights = [shares[2][sum(mark <= journey[n][1] for mark in shares[1])] for n in chosen]
-            found[number] = Fraction(weights[place], sum(weights)) if sum(weights) else Fraction(0)
-    return found
-
-
-def as_pair(number):
-    return (number.numerator, number.denominator)
-
-
-def random_rule(chance):
-    kinds = tuple(sorted(chance.sample(["ad", "b", "direct", "mail", "z"], chance.randint(1, 4))))
-    weak = tuple(kind for kind in kinds if chance.random() < 0.35)
-    many = chance.randint(1, 4)
-    marks = tuple(sorted(chance.sample(range(1, 61) if chance.random() < 0.5 else range(1, 6), chance.randint(0, 3))))
-    rows = []
-    for place in range(many):
-        cuts = sorted(chance.randint(0, 100) for _ in range(place + 1))
-        rows.append(tuple(back - ahead for ahead, back in itertools.pairwise([0] + cuts)))
-    shares = chance.choice([
-        ("even",), ("places", tuple(rows)),
-        ("ages", marks, tuple(chance.choice([0, 0, 1, 2, 3, 9]) for _ in range(len(marks) + 1))),
-    ])
-    window = chance.choice([None, chance.randint(0, 60), chance.randint(0, 6)])
-    gap = chance.choice([None, chance.randint(0, 24), chance.randint(0, 3)])
-    return (kinds, window, gap, weak, chance.choice(["all", "first", "last"]), (chance.choice(["first", "last"]), many),
-            shares)
-
-
-def random_journey(chance, kinds):
-    many = chance.choice([0, 1, 2, 3, 4, 5, 6, 8, 12])
-    greatest = chance.choice([0, 3, 8, 70])
-    ages = sorted((chance.randint(0, greatest) for _ in range(many)), reverse=True)
-    return tuple((chance.choice(kinds), age) for age in ages)
 
 
 class Reached(unittest.TestCase):

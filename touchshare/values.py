@@ -1,14 +1,19 @@
 """Plain values: integers, words, tuples in order, fractions."""
 
-from math import gcd
+from math import gcd, lcm
 
 
 def is_integer(value, least, greatest):
     """Whether any value is an integer from least to greatest."""
+    return is_at_least(value, least) and value <= greatest
+
+
+def is_at_least(value, least):
+    """Whether any value is an integer from least on."""
     # To Python True and False are integers; here they are none.
     if not isinstance(value, int) or isinstance(value, bool):
         return False
-    return least <= value <= greatest
+    return least <= value
 
 
 def is_word(value):
@@ -38,7 +43,34 @@ def is_ascending(things):
     return all([ahead < thing for ahead, thing in zip(things, things[1:])])
 
 
+def is_share(value):
+    """Whether any value is a FRACTION from 0 to 1."""
+    if not is_tuple(value, 2) or not is_at_least(value[1], 1) or not is_integer(value[0], 0, value[1]):
+        return False
+    return gcd(value[0], value[1]) == 1
+
+
 def fraction(part, of):
     """The FRACTION that is part of so many, of being above 0."""
     divisor = gcd(part, of)
     return (part // divisor, of // divisor)
+
+
+def fraction_sum(one, other):
+    """The sum of two FRACTIONS."""
+    return fraction(one[0] * other[1] + other[0] * one[1], one[1] * other[1])
+
+
+def fraction_less(one, other):
+    """The first FRACTION less the other one, perhaps below 0."""
+    return fraction_sum(one, (-other[0], other[1]))
+
+
+def ordered_fractions(fractions):
+    """The tuple of a list of FRACTIONS, none of them twice, ascending as numbers."""
+    common = 1
+    for _, of in fractions:
+        common = lcm(common, of)
+    # As parts of one common whole they have the order of integers.
+    by_size = {part * (common // of): (part, of) for part, of in fractions}
+    return tuple([by_size[size] for size in sorted(list(by_size))])

@@ -1,0 +1,146 @@
+"""A second reckoning, from the words of the document, by sets and by Python's own fractions; rules and journeys."""
+
+import itertools
+from fractions import Fraction
+
+
+def told_reached(rule, journey):
+    found = []
+    for number, (_, age) in enumerate(journey):
+        hours = [0] + [later[1] for later in reversed(journey[number:])]
+        near = rule[1] is None or age <= rule[1]
+        if near and all(rule[2] is None or back - ahead <= rule[2] for ahead, back in itertools.pairwise(hours)):
+            found.append(number)
+    return tuple(found)
+
+
+def told_credited(rule, journey):
+    _, _, _, weak, once, (end, many), _ = rule
+    near = told_reached(rule, journey)
+    count = {number for number in near if journey[number][0] not in weak} or set(near)
+    alone = {"first": min, "last": max}
+    stay = {
+        number for number in count
+        if once == "all" or number == alone[once](n for n in count if journey[n][0] == journey[number][0])
+    }
+    order = sorted(stay, reverse=end == "last")
+    return tuple(sorted(order[:many]))
+
+
+def told_credits(rule, journey):
+    chosen = told_credited(rule, journey)
+    shares = rule[6]
+    found = [Fraction(0)] * len(journey)
+    for place, number in enumerate(chosen):
+        if shares[0] == "even":
+            found[number] = Fraction(1, len(chosen))
+        elif shares[0] == "places":
+            found[number] = Fraction(shares[1][len(chosen) - 1][place], 100)
+        else:
+            weights = [shares[2][sum(mark <= journey[n][1] for mark in shares[1])] for n in chosen]
+            found[number] = Fraction(weights[place], sum(weights)) if sum(weights) else Fraction(0)
+    return found
+
+
+def as_pair(number):
+    return (number.numerator, number.denominator)
+
+
+def random_rule(chance):
+    kinds = tuple(sorted(chance.sample(["ad", "b", "direct", "mail", "z"], chance.randint(1, 4))))
+    weak = tuple(kind for kind in kinds if chance.random() < 0.35)
+    many = chance.randint(1, 4)
+    marks = tuple(sorted(chance.sample(range(1, 61) if chance.random() < 0.5 else range(1, 6), chance.randint(0, 3))))
+    rows = []
+    for place in range(many):
+        cuts = sorted(chance.randint(0, 100) for _ in range(place + 1))
+        rows.append(tuple(back - ahead for ahead, back in itertools.pairwise([0] + cuts)))
+    shares = chance.choice([
+        ("even",), ("places", tuple(rows)),
+        ("ages", marks, tuple(chance.choice([0, 0, 1, 2, 3, 9]) for _ in range(len(marks) + 1))),
+    ])
+    window = chance.choice([None, chance.randint(0, 60), chance.randint(0, 6)])
+    gap = chance.choice([None, chance.randint(0, 24), chance.randint(0, 3)])
+    return (kinds, window, gap, weak, chance.choice(["all", "first", "last"]), (chance.choice(["first", "last"]), many),
+            shares)
+
+
+def random_journey(chance, kinds):
+    many = chance.choice([0, 1, 2, 3, 4, 5, 6, 8, 12])
+    greatest = chance.choice([0, 3, 8, 70])
+    ages = sorted((chance.randint(0, greatest) for _ in range(many)), reverse=True)
+    return tuple((chance.choice(kinds), age) for age in ages)
+
+
+def told_hours(rule):
+    far = max([0] + ([rule[1] + 1] if rule[1] is not None else []) + list(told_marks(rule)[-1:]))
+    return far, max([far] + ([rule[2] + 1] if rule[2] is not None else []))
+
+
+def told_marks(rule):
+    return rule[6][1] if rule[6][0] == "ages" else ()
+
+
+def told_standing(rule, journey):
+    """The STANDING behind a whole JOURNEY, by looking at all of it."""
+    kinds, _, _, weak, once, (end, many), _ = rule
+    far, _ = told_hours(rule)
+    near = told_reached(rule, journey)
+
+    def told(numbers):
+        alone = {"first": min, "last": max}
+        stay = [number for number in numbers
+                if once == "all" or number == alone[once](n for n in numbers if journey[n][0] == journey[number][0])]
+        if once == "all":
+            stay = sorted(sorted(stay, reverse=end == "last")[:many])
+        return tuple((kinds.index(journey[n][0]), sum(mark <= journey[n][1] for mark in told_marks(rule)))
+                     for n in stay)
+
+    out = int(any(number not in near for number in range(len(journey))))
+    age = far if out else min([far] + [age for _, age in journey[:1]]) if journey else 0
+    return (age, out, told([n for n in near if journey[n][0] not in weak]),
+            told([n for n in near if journey[n][0] in weak]))
+
+
+def told_kind_credits(rule, journey):
+    found = {kind: Fraction(0) for kind in rule[0]}
+    for (kind, _), part in zip(journey, told_credits(rule, journey)):
+        found[kind] += part
+    return tuple(found[kind] for kind in rule[0])
+
+
+def longer(rule, journey):
+    """All JOURNEYS with a TOUCH more, D hours further back, D from 0 to REACH."""
+    age = journey[0][1] if journey else 0
+    return [((kind, age + distance),) + journey for kind in rule[0] for distance in range(told_hours(rule)[1] + 1)]
+
+
+def told_standings(rule, first=()):
+    """Of all STANDINGS that come of JOURNEYS that end with some TOUCHES a JOURNEY each, as short as can be.
+
+    They are told in the order of their lengths. That a STANDING hangs on the one ahead alone is used here: only one
+    JOURNEY of each STANDING is made longer.
+    """
+    found = {told_standing(rule, first): first}
+    layer = [first]
+    while layer:
+        further = []
+        for journey in layer:
+            for more in longer(rule, journey):
+                standing = told_standing(rule, more)
+                if standing not in found:
+                    found[standing] = more
+                    further.append(more)
+        layer = further
+    return found
+
+
+def small_rules():
+    """Rules of few STANDINGS, of each ONCE, each PICK, each of SHARES, with and without WEAK, WINDOW and GAP."""
+    parts = itertools.product(
+        (("a", "b"),), (None, 0, 1, 2), (None, 0, 1), ((), ("b",), ("a", "b")), ("all", "first", "last"),
+        (("first", 1), ("last", 1), ("first", 2), ("last", 2)))
+    for number, (kinds, window, gap, weak, once, pick) in enumerate(parts):
+        rows = ((100,), (30, 60))[:pick[1]]
+        shares = (("even",), ("places", rows), ("ages", (1,), (3, 0)), ("ages", (1, 2), (0, 2, 1)), ("ages", (), (1,)))
+        yield (kinds, window, gap, weak, once, pick, shares[number % 5])

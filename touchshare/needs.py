@@ -1,0 +1,17 @@
+"""Arguments that many functions take: what is wrong with them is raised."""
+
+from touchshare.errors import BadKind, BadNumber
+from touchshare.rules import KINDS
+from touchshare.values import is_integer, is_one_of
+
+
+def need_kind(rule, value):
+    """BadKind of what is none of the KINDS of a RULE."""
+    if not is_one_of(value, rule[KINDS]):
+        raise BadKind(value)
+
+
+def need_number(value, least, greatest):
+    """BadNumber of what is no integer from least to greatest."""
+    if not is_integer(value, least, greatest):
+        raise BadNumber(value)
