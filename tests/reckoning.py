@@ -144,3 +144,102 @@ def small_rules():
         rows = ((100,), (30, 60))[:pick[1]]
         shares = (("even",), ("places", rows), ("ages", (1,), (3, 0)), ("ages", (1, 2), (0, 2, 1)), ("ages", (), (1,)))
         yield (kinds, window, gap, weak, once, pick, shares[number % 5])
+
+
+def smallest_rules(chance, many):
+    """So many rules of two kinds "a" and "b" and of few hours, and with few STANDINGS."""
+    found = []
+    while len(found) < many:
+        end, most = chance.choice(["first", "last"]), chance.choice([1, 1, 2, 3])
+        rows = [[chance.choice([0, 10, 30]) for _ in range(place + 1)] for place in range(most)]
+        marks = tuple(sorted(chance.sample(range(1, 4), chance.choice([0, 1, 1, 2]))))
+        shares = chance.choice([("even",), ("places", tuple(map(tuple, rows))),
+                                ("ages", marks, tuple(chance.choice([0, 1, 2, 5]) for _ in range(len(marks) + 1)))])
+        found.append((("a", "b"), chance.choice([None, 0, 1, 2, 3]), chance.choice([None, None, 0, 1, 2]),
+                      chance.choice([(), (), ("a",), ("b",), ("a", "b")]), chance.choice(["all", "first", "last"]),
+                      (end, most), shares))
+    return found
+
+
+def all_journeys(kinds, greatest, many):
+    """All JOURNEYS of at most so many TOUCHES, of AGES up to the greatest, the shortest ones first."""
+    for length in range(many + 1):
+        for ages in itertools.combinations_with_replacement(range(greatest, -1, -1), length):
+            for names in itertools.product(kinds, repeat=length):
+                yield tuple(zip(names, ages))
+
+
+def all_put_in(journey, kind, greatest):
+    """All pairs of a JOURNEY with a TOUCH of a kind put in, of an AGE up to the greatest, and of its number."""
+    for place in range(len(journey) + 1):
+        first = journey[place][1] if place < len(journey) else 0
+        last = journey[place - 1][1] if place else greatest
+        for age in range(first, last + 1):
+            yield journey[:place] + ((kind, age),) + journey[place:], place
+
+
+def told_all(first, nexts):
+    """Of all things that come of a first one, by what they are told by, one each; as few steps as can be."""
+    state, told = first
+    found = {told: state}
+    layer = [state]
+    while layer:
+        further = []
+        for state in layer:
+            for more, told in nexts(state):
+                if told not in found:
+                    found[told] = more
+                    further.append(more)
+        layer = further
+    return found
+
+
+def told_rows(rules):
+    """Of all tuples of STANDINGS of some rules a JOURNEY each, as short as can be."""
+    reach = max(told_hours(rule)[1] for rule in rules)
+
+    def told(journey):
+        return tuple(told_standing(rule, journey) for rule in rules)
+
+    def nexts(journey):
+        age = journey[0][1] if journey else 0
+        more = [((kind, age + distance),) + journey for kind in rules[0][0] for distance in range(reach + 1)]
+        return [(longer_one, told(longer_one)) for longer_one in more]
+
+    return told_all(((), told(())), nexts)
+
+
+def without(journey, number):
+    return journey[:number] + journey[number + 1:]
+
+
+def told_track(rule, journey, number):
+    """The TRACK of a JOURNEY with the TOUCH of a number put in, or without one put in if the number is None."""
+    if number is None:
+        return (told_standing(rule, journey),) * 2 + (0, 0)
+    slack = 0
+    if number == 0:
+        slack = min(journey[0][1] - (journey[1][1] if len(journey) > 1 else 0), told_hours(rule)[1])
+    return (told_standing(rule, without(journey, number)), told_standing(rule, journey), slack, 1)
+
+
+def told_tracks(rule, other):
+    """Of all TRACKS a pair each: a JOURNEY with the TOUCH put in, as short as can be, and its number or None."""
+    def nexts(state):
+        journey, number = state
+        age = journey[0][1] if journey else 0
+        for distance in range(told_hours(rule)[1] + 1):
+            for kind in rule[0]:
+                more = ((kind, age + distance),) + journey
+                place = None if number is None else number + 1
+                yield (more, place), told_track(rule, more, place)
+            if number is None:
+                more = ((other, age + distance),) + journey
+                yield (more, 0), told_track(rule, more, 0)
+
+    return told_all((((), None), told_track(rule, (), None)), nexts)
+
+
+def told_gain(rule, journey, number, kind):
+    place = rule[0].index(kind)
+    return told_kind_credits(rule, journey)[place] - told_kind_credits(rule, without(journey, number))[place]

@@ -84,6 +84,10 @@ FOUR = ("a", "b", "c", "d")
 GREAT = (FOUR, 56, None, (), "all", ("last", 4), ("even",))
 TOO_GREAT = (FOUR, 57, None, (), "all", ("last", 4), ("even",))
 
+# 19,350 TRACKS come of each kind that is put in; with an hour more in WINDOW more than 20,000.
+MOST_TRACKS = (("a", "b", "c"), 37, None, (), "all", ("last", 2), ("even",))
+MORE_TRACKS = (("a", "b", "c"), 38, None, (), "all", ("last", 2), ("even",))
+
 
 def wrong_rules():
     """Pairs of what is no rule, and of the part that is told."""

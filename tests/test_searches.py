@@ -3,7 +3,7 @@
 import unittest
 
 from touchshare.errors import TooGreat
-from touchshare.searches import come_from
+from touchshare.searches import come_from, steps_to
 
 
 class ComeFrom(unittest.TestCase):
@@ -28,6 +28,14 @@ class ComeFrom(unittest.TestCase):
             with self.assertRaises(TooGreat) as caught:
                 come_from(0, nexts)
             self.assertEqual(caught.exception.most, 20000)
+
+
+class StepsTo(unittest.TestCase):
+    def test_the_last_step_comes_first(self):
+        came = come_from(1, lambda n: [(name, m) for name, m in (("next", n + 1), ("twice", 2 * n)) if m <= 10])
+        self.assertEqual(steps_to(came, 1), [])
+        self.assertEqual(steps_to(came, 9), ["next", "twice", "twice", "next"])
+        self.assertEqual(steps_to(came, 6), ["twice", "next", "next"])
 
 
 if __name__ == "__main__":

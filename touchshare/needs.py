@@ -1,7 +1,7 @@
 """Arguments that many functions take: what is wrong with them is raised."""
 
-from touchshare.errors import BadKind, BadNumber
-from touchshare.rules import KINDS
+from touchshare.errors import BadJourney, BadKind, BadNumber
+from touchshare.rules import KINDS, need_journey
 from touchshare.values import is_integer, is_one_of
 
 
@@ -15,3 +15,12 @@ def need_number(value, least, greatest):
     """BadNumber of what is no integer from least to greatest."""
     if not is_integer(value, least, greatest):
         raise BadNumber(value)
+
+
+def is_journey(rule, value):
+    """Whether any value is a JOURNEY of the KINDS of a RULE."""
+    try:
+        need_journey(rule, value)
+    except BadJourney:
+        return False
+    return True

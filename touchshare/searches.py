@@ -24,3 +24,12 @@ def come_from(first, nexts):
                         raise TooGreat(MOST)
         layer = further
     return came
+
+
+def steps_to(came, last):
+    """The steps by which one came of all that come_from told, the last one of them first."""
+    steps = []
+    while came[last] is not None:
+        last, step = came[last]
+        steps.append(step)
+    return steps

@@ -1,10 +1,10 @@
 """When touches of one kind, the last ones of a journey, keep another kind from all credit."""
 
-from touchshare.errors import BadJourney, BadKind, BadPaper
-from touchshare.needs import need_kind, need_number
-from touchshare.rules import KINDS, need_journey, need_rule
-from touchshare.values import is_ascending, is_one_of, is_tuple
-from touchshare.walks import FIRST, Walk
+from touchshare.errors import BadPaper
+from touchshare.needs import is_journey, need_kind, need_number
+from touchshare.rules import KINDS, need_rule
+from touchshare.values import is_ascending, is_paper
+from touchshare.walks import Walk
 
 MOST_LAST = 100
 # If any number of touches shields, so many do.
@@ -44,7 +44,7 @@ def check_shield(rule, kind, other, many, paper):
     """The word of a paper on it; BadPaper of what is none."""
     _need_kinds(rule, kind, other)
     need_number(many, 0, MOST_LAST)
-    if not is_tuple(paper, 2) or not is_one_of(paper[0], ("shields", "fails")) or not isinstance(paper[1], tuple):
+    if not is_paper(paper, ("shields", "fails")):
         raise BadPaper("form")
     word, told = paper
     number = rule[KINDS].index(kind)
@@ -98,11 +98,7 @@ def _is_row(walk, number, rows, standing):
 
 def _is_failing(rule, number, last, journey):
     """Whether a tuple is a JOURNEY that ends with those touches, of which the KIND of a number has a CREDIT."""
-    try:
-        need_journey(rule, journey)
-    except BadJourney:
-        return False
-    if journey[len(journey) - len(last):] != last:
+    if not is_journey(rule, journey) or journey[len(journey) - len(last):] != last:
         return False
     walk = Walk(rule)
     return walk.has_credit(walk.standing_of(journey), number)

@@ -2,6 +2,9 @@
 
 from math import gcd, lcm
 
+# No integer of a text or a line has more.
+MOST_FIGURES = 7
+
 
 def is_integer(value, least, greatest):
     """Whether any value is an integer from least to greatest."""
@@ -10,10 +13,13 @@ def is_integer(value, least, greatest):
 
 def is_at_least(value, least):
     """Whether any value is an integer from least on."""
+    return is_any_integer(value) and least <= value
+
+
+def is_any_integer(value):
+    """Whether any value is an integer."""
     # To Python True and False are integers; here they are none.
-    if not isinstance(value, int) or isinstance(value, bool):
-        return False
-    return least <= value
+    return isinstance(value, int) and not isinstance(value, bool)
 
 
 def is_word(value):
@@ -21,6 +27,15 @@ def is_word(value):
     if not isinstance(value, str) or not 1 <= len(value) <= 6:
         return False
     return all(["a" <= sign <= "z" for sign in value])
+
+
+def written_integer(word):
+    """The integer from 0 on that a string is in decimal, of at most 7 figures without a 0 ahead, or None."""
+    if not 1 <= len(word) <= MOST_FIGURES or not all(["0" <= sign <= "9" for sign in word]):
+        return None
+    if word[0] == "0" and word != "0":
+        return None
+    return int(word)
 
 
 def is_one_of(value, words):
@@ -43,11 +58,21 @@ def is_ascending(things):
     return all([ahead < thing for ahead, thing in zip(things, things[1:])])
 
 
+def is_fraction(value):
+    """Whether any value is a FRACTION."""
+    if not is_tuple(value, 2) or not is_at_least(value[1], 1):
+        return False
+    return is_any_integer(value[0]) and gcd(value[0], value[1]) == 1
+
+
 def is_share(value):
     """Whether any value is a FRACTION from 0 to 1."""
-    if not is_tuple(value, 2) or not is_at_least(value[1], 1) or not is_integer(value[0], 0, value[1]):
-        return False
-    return gcd(value[0], value[1]) == 1
+    return is_fraction(value) and 0 <= value[0] <= value[1]
+
+
+def is_paper(value, words):
+    """Whether any value is a pair of one of some words and a tuple."""
+    return is_tuple(value, 2) and is_one_of(value[0], words) and isinstance(value[1], tuple)
 
 
 def fraction(part, of):

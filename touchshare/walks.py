@@ -37,7 +37,7 @@ class Walk:
         later = min(age + distance, self.far)
         if out == 1 or not self._is_reached(later, distance):
             return (self.far, 1, strong, soft)
-        strong, soft = self._grown(strong, soft, (number, age_class(self._rule, later)))
+        strong, soft = self.grown(strong, soft, (number, age_class(self._rule, later)))
         return (later, 0, strong, soft)
 
     def nexts(self, standing):
@@ -52,7 +52,7 @@ class Walk:
         spans = self._spans(age)
         for number in range(len(self._kinds)):
             for level, first, last in spans:
-                strong_more, soft_more = self._grown(strong, soft, (number, level))
+                strong_more, soft_more = self.grown(strong, soft, (number, level))
                 found.extend([(number, (later, 0, strong_more, soft_more)) for later in range(first, last + 1)])
         if not self._is_reached(self.far, self.reach):
             found.append((0, (self.far, 1, strong, soft)))
@@ -105,6 +105,12 @@ class Walk:
         parts, _ = self._kind_parts(standing)
         return parts[number] > 0
 
+    def grown(self, strong, soft, pair):
+        """A pair: STRONG and SOFT with a TOUCH more, told by the numbers of its KIND and CLASS."""
+        if self._weak[pair[0]]:
+            return strong, self._kept((pair, *soft))
+        return self._kept((pair, *strong)), soft
+
     def _is_reached(self, age, distance):
         """Whether a TOUCH of such an AGE, so many hours behind a reached one, is reached."""
         return _is_within(age, self._rule[WINDOW]) and _is_within(distance, self._rule[GAP])
@@ -120,12 +126,6 @@ class Walk:
         ends = [mark - 1 for mark in self._marks] + [last]
         spans = [(level, max(age, start), min(last, end)) for level, (start, end) in enumerate(zip(starts, ends))]
         return [span for span in spans if span[1] <= span[2]]
-
-    def _grown(self, strong, soft, pair):
-        """A pair: STRONG and SOFT with a TOUCH more, told by the numbers of its KIND and CLASS."""
-        if self._weak[pair[0]]:
-            return strong, self._kept((pair, *soft))
-        return self._kept((pair, *strong)), soft
 
     def _kept(self, pairs):
         """Of STRONG or SOFT, with a TOUCH more, those that are told."""
