@@ -253,6 +253,21 @@ class Papers(unittest.TestCase):
             greater = tuple(sorted({*table, near}))
             self.refuse((gain, greater, journey, number), "table")
 
+    def test_what_lies_behind_much_slack(self):
+        rule = (("a", "b"), 2, None, (), "all", ("last", 2), ("ages", (1,), (1, 1)))
+        gain, table, journey, number = gain_paper(rule, "a", "b")
+        # No touch of a later CLASS stands ahead of one of an earlier one: this never comes.
+        never = ((0, 0), (1, 1))
+        out = (3, 1, never, ())
+        for age in (0, 1, 2):
+            for slack in (2 - age + 1, 3):
+                more = {((age, 0, never, ()), out, slack, 1), (out, out, 0, 1)}
+                self.assertFalse(more & set(table))
+                greater = tuple(sorted({*table, *more}))
+                self.assertEqual(check_gain(rule, "a", "b", (gain, greater, journey, number)), gain)
+                fewer = tuple(sorted({*table, *more} - {(out, out, 0, 1)}))
+                self.refuse((gain, fewer, journey, number), "table", rule)
+
     def test_a_table_without_one_of_its_tracks_does_not_hold(self):
         gain, table, journey, number = self.paper
         self.assertEqual(len(table), 153)
@@ -301,7 +316,8 @@ class Papers(unittest.TestCase):
             (standing, out, slack, 1) for standing in (never, out) for slack in range(4)}
         greater = tuple(sorted({*table, *closed}))
         self.assertEqual(check_gain(SMALL, "a", "b", (gain, greater, journey, number)), gain)
-        for wrong in ((never, never, 1, 0), (out, out, 3, 0), (never, out, 0, 0), (out, never, 0, 0)):
+        for wrong in ((never, never, 1, 0), (out, out, 3, 0), (never, out, 0, 0), (out, never, 0, 0), (out, out, 0, 2),
+                      (out, out, 0, -1)):
             self.refuse((gain, tuple(sorted({*greater, wrong})), journey, number), "table")
 
     def test_slack_is_at_most_the_reach(self):

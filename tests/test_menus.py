@@ -148,6 +148,7 @@ class ByHand(unittest.TestCase):
         self.assertEqual(parted_by((FIRST, NEAR, LAST), (("ad", 40), ("mail", 12))), ((0,), (1,), (2,)))
         self.assertEqual(parted_by((LAST, NEAR, FIRST), (("ad", 40),)), ((0, 2), (1,)))
         self.assertEqual(parted_by((TOO_GREAT, GREAT), (("a", 57),)), ((0,), (1,)))
+        self.assertEqual(parted_by((EVEN,), (("ad", 4), ("mail", 4))), ((0,),))
 
     def test_parting_most(self):
         self.assertEqual(parting_most((EVEN,)), ())

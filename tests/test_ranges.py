@@ -7,7 +7,7 @@ import unittest
 from fractions import Fraction
 
 from tests.reckoning import (all_put_in, as_pair, random_journey, random_rule, smallest_rules, told_hours,
-                             told_kind_credits)
+                             told_kind_credits, told_standing)
 from tests.refusals import check_names, check_refusals
 from tests.samples import EVEN, FOUR, TOO_GREAT, EqualToAll, LikeInteger, odd_things, rule_with, wrong_rules
 from touchshare.errors import BadJourney, BadKind, BadNumber, BadRule
@@ -125,6 +125,40 @@ class ByHand(Ranges):
         self.assertEqual(len(full), 3)
         self.assertTrue(17 <= full[1][1] < 33)
 
+    def test_a_class_without_any_gap(self):
+        rule = (("a", "b"), None, None, (), "all", ("last", 1), ("ages", (17, 33), (0, 1, 0)))
+        self.assertEqual(unseen_range(rule, (), "a", 1), (NONE, WHOLE))
+        self.assertTrue(17 <= full_journey(rule, (), "a", 1)[0][1] < 33)
+        # Behind all touches there is no other class than that of the last one.
+        self.assertEqual(unseen_range(rule, (("b", 33),), "a", 0), (NONE, NONE))
+        self.assertEqual(unseen_range(rule, (("b", 33),), "a", 1), (NONE, WHOLE))
+        self.assertEqual(unseen_range(rule, (("b", 17), ("b", 16)), "a", 1), (NONE, NONE))
+        rule = rule[:5] + (("first", 1),) + rule[6:]
+        self.assertEqual(unseen_range(rule, (("b", 33),), "a", 3), (NONE, NONE))
+        self.assertEqual(unseen_range(rule, (("b", 32),), "a", 1), (NONE, WHOLE))
+
+    def test_a_pause_that_is_bridged(self):
+        # Only if the pause is filled all of the last four are of "a".
+        rule = (("a", "b"), None, 5, (), "all", ("first", 4), ("even",))
+        for pause, needed in ((6, 1), (10, 1), (11, 2), (15, 2), (16, 3), (20, 3), (21, 4), (10 ** 6, 4)):
+            journey = (("a", pause),) * 4 + (("b", 0),)
+            for many in (1, 2, 3):
+                most = WHOLE if many >= needed else (many, many + 1)
+                self.assertEqual(unseen_range(rule, journey, "a", many), (NONE, most))
+                full = full_journey(rule, journey, "a", many)
+                self.assertEqual(len(full), 5 + (needed if many >= needed else many))
+                self.check_is_full(rule, journey, many, full)
+
+    def test_a_class_that_is_reached_by_several_touches(self):
+        rule = (("a", "b"), None, 5, (), "all", ("first", 1), ("ages", (12, 16), (0, 1, 0)))
+        self.assertEqual(unseen_range(rule, (), "a", 2), (NONE, NONE))
+        self.assertEqual(unseen_range(rule, (), "a", 3), (NONE, WHOLE))
+        ages = [age for _, age in full_journey(rule, (), "a", 3)]
+        self.assertEqual(len(ages), 3)
+        self.assertTrue(12 <= ages[0] < 16 and ages[0] - ages[1] <= 5 and ages[1] - ages[2] <= 5 and ages[2] <= 5)
+        self.assertEqual(unseen_range(rule, (("b", 9), ("b", 4)), "a", 1), (NONE, WHOLE))
+        self.assertEqual(unseen_range(rule, (("b", 6), ("b", 4)), "a", 1), (NONE, NONE))
+
     def test_great_ages(self):
         far = rule_with(pick=("first", 1))
         for age in (GREATEST, GREATEST - 1, GREATEST - 30, 999):
@@ -141,9 +175,42 @@ class ByHand(Ranges):
         self.assertEqual(full_journey(far, journey, "mail", 2), (("mail", GREATEST),) + journey)
 
 
+def told_spots(rule, journey, many):
+    """Of all STANDINGS behind FULL JOURNEYS one each, as short as can be, with touches put in at all hours.
+
+    What is put in further back than the REACH is as if it were as far back as that.
+    """
+    reach = told_hours(rule)[1]
+
+    def keep(found, full):
+        spot = (told_standing(rule, full), full[0][1] if full else 0)
+        if spot not in found or len(found[spot]) > len(full):
+            found[spot] = full
+
+    def with_more(spots, ahead, until):
+        for used in range(many):
+            for full in [full for full in spots.values() if len(full) == ahead + used]:
+                age = full[0][1] if full else 0
+                for moment in range(age, min(until, age + reach) + 1):
+                    for kind in rule[0]:
+                        keep(spots, ((kind, moment),) + full)
+        return spots
+
+    spots = {}
+    keep(spots, ())
+    for ahead, touch in enumerate(reversed(journey)):
+        before, spots = with_more(spots, ahead, touch[1]), {}
+        for full in before.values():
+            keep(spots, (touch,) + full)
+    return list(with_more(spots, len(journey), GREATEST).values())
+
+
 class BesideASecondReckoning(Ranges):
     def check_beside(self, rule, journey, many, greatest):
-        told = [(told_kind_credits(rule, full), len(full)) for full in all_full(rule, journey, many, greatest)]
+        self.check_told(rule, journey, many, all_full(rule, journey, many, greatest))
+
+    def check_told(self, rule, journey, many, fulls):
+        told = [(told_kind_credits(rule, full), len(full)) for full in fulls]
         for number, kind in enumerate(rule[0]):
             found, lengths = self.check_full(rule, journey, kind, many)
             extremes = [choose(parts[number] for parts, _ in told) for choose in (min, max)]
@@ -185,6 +252,24 @@ class BesideASecondReckoning(Ranges):
                     tuple(chance.randint(0, 3) for _ in range(3))))
             journey = (("a", 22), ("b", chance.randint(3, 9)))
             self.check_beside(rule, journey, 2, 26)
+
+    def test_the_shortest_to_each_standing(self):
+        chance = random.Random(57)
+        for number, rule in enumerate(smallest_rules(chance, 60)):
+            ages = sorted((chance.randint(0, 9) for _ in range(chance.randint(3, 6))), reverse=True)
+            journey = tuple((chance.choice("ab"), age) for age in ages)
+            many = 2 + number % 2
+            self.check_told(rule, journey, many, told_spots(rule, journey, many))
+
+    def test_fewer_touches_further_back(self):
+        # To some STANDINGS of these a way by fewer touches is found behind one by more.
+        for rule, journey, many in (
+                ((("ad", "z"), 5, 3, (), "all", ("last", 4), ("places", ((3,), (11, 31), (17, 8, 35), (18, 49, 25, 5)))),
+                 (("ad", 10), ("z", 6), ("ad", 5), ("ad", 0), ("z", 0)), 2),
+                ((("ad",), None, 2, ("ad",), "all", ("first", 4), ("places", (
+                    (49,), (34, 27), (50, 14, 36), (19, 25, 22, 5)))),
+                 (("ad", 12), ("ad", 10), ("ad", 10), ("ad", 3), ("ad", 0)), 2)):
+            self.check_told(rule, journey, many, told_spots(rule, journey, many))
 
     def test_journeys_of_200_touches(self):
         chance = random.Random(55)

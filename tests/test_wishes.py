@@ -29,6 +29,7 @@ LESS = (AB, None, None, (), "all", ("first", 2), ("places", ((100,), (10, 20))))
 LAST_ABC = (("a", "b", "c"), None, None, (), "all", ("last", 1), ("even",))
 # Of the WINDOW 11 come 17,560 TRACKS, of 12 more than 20,000.
 WIDE = (("a", "b", "c", "d"), 0, None, (), "all", ("last", 3), ("even",))
+FAR = (("a", "b", "c", "d"), None, 24, (), "all", ("last", 4), ("even",))
 # If "b" is put in, 19,918 TRACKS come; of the others more than 20,000.
 UNLIKE = (("a", "b", "c"), 29, None, ("b",), "all", ("first", 2), ("even",))
 NO_WISHES = [thing for thing in odd_things() if not isinstance(thing, tuple) or thing] + [
@@ -236,6 +237,11 @@ class Refusals(unittest.TestCase):
             check_refusal(self, least_window, {"rule": wide, "wishes": ("fair",), "greatest": 12},
                 (TooGreat, "most", 20000))
         self.assertIsNone(least_window(WIDE, ("fair",), 11))
+        # With a great GAP the least WINDOW is too great already, whatever the wishes are.
+        for wishes in ((), ("open",), WISHES):
+            for greatest in (0, 12):
+                check_refusal(self, least_window, {"rule": FAR, "wishes": wishes, "greatest": greatest},
+                              (TooGreat, "most", 20000))
         check_refusal(self, least_window, {"rule": WIDE, "wishes": ("fair",), "greatest": 13}, (BadNumber, "value", 13))
 
     def test_names(self):
