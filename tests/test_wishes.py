@@ -108,6 +108,19 @@ class ByHand(unittest.TestCase):
         self.assertEqual(quarrels((ZERO, LESS)), (
             ("fair", "firm"), ("fair", "modest"), ("firm", "open"), ("modest", "open"), ("whole",)))
 
+    def test_quarrels_with_as_many_wishes_as_rules(self):
+        # Each of these lacks one wish alone.
+        lacking = {"fair": LAST, "firm": (AB, 3, 2, (), "first", ("first", 3), ("even",)),
+                   "modest": (AB, 0, 0, (), "all", ("first", 3), ("even",)), "whole": FIRST[:6] + (("places", ((10,),)),)}
+        for word, rule in lacking.items():
+            self.assertEqual(wishes_of(rule), tuple(some for some in WISHES if some != word))
+        for many in range(1, 5):
+            for words in itertools.permutations(lacking, many):
+                menu = tuple(lacking[word] for word in words)
+                self.assertEqual(quarrels(menu), (tuple(sorted(words)),))
+                self.assertIs(does_quarrel(menu, WISHES), True)
+                self.assertIs(does_quarrel(menu, tuple(sorted(words[1:]))), False)
+
     def test_least_window(self):
         rule = (AB, None, 0, (), "all", ("first", 1), ("ages", (3, 5), (0, 1, 0)))
         self.assertEqual(wishes_of(rule), ("firm", "modest"))
