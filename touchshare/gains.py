@@ -1,8 +1,8 @@
 """Who gains or loses by a touch more, and the paper on the MOST GAIN."""
 
 from touchshare.errors import BadPaper
-from touchshare.needs import is_journey, need_kind
-from touchshare.rules import KINDS, need_rule
+from touchshare.needs import is_journey, need_two_kinds
+from touchshare.rules import KINDS
 from touchshare.sharing import kind_credits
 from touchshare.tracks import PUT, Tracks
 from touchshare.values import fraction_less, is_ascending, is_fraction, is_integer, is_tuple, ordered_fractions
@@ -20,7 +20,7 @@ def least_gain(rule, kind, other):
 
 def gain_journey(rule, kind, other, *, least=False):
     """A JOURNEY with as few touches as can be, and the number of one that brings the MOST GAIN, or the LEAST GAIN."""
-    _need_kinds(rule, kind, other)
+    need_two_kinds(rule, kind, other)
     tracks = Tracks(rule, other)
     came = tracks.all_tracks()
     gains = _gains(tracks, came, rule[KINDS].index(kind))
@@ -29,7 +29,7 @@ def gain_journey(rule, kind, other, *, least=False):
 
 def gain_paper(rule, kind, other):
     """The paper on the MOST GAIN: (GAIN, TABLE, JOURNEY, NUMBER)."""
-    _need_kinds(rule, kind, other)
+    need_two_kinds(rule, kind, other)
     tracks = Tracks(rule, other)
     came = tracks.all_tracks()
     gains = _gains(tracks, came, rule[KINDS].index(kind))
@@ -40,7 +40,7 @@ def gain_paper(rule, kind, other):
 
 def check_gain(rule, kind, other, paper):
     """The GAIN of a paper on the MOST GAIN; BadPaper of what is none."""
-    _need_kinds(rule, kind, other)
+    need_two_kinds(rule, kind, other)
     if not is_tuple(paper, 4) or not is_fraction(paper[0]):
         raise BadPaper("form")
     gain, table, journey, number = paper
@@ -51,15 +51,9 @@ def check_gain(rule, kind, other, paper):
     return gain
 
 
-def _need_kinds(rule, kind, other):
-    need_rule(rule)
-    need_kind(rule, kind)
-    need_kind(rule, other)
-
-
 def _all_gains(rule, kind, other):
     """All GAINS of a kind by a touch more of the other one, ascending as numbers."""
-    _need_kinds(rule, kind, other)
+    need_two_kinds(rule, kind, other)
     tracks = Tracks(rule, other)
     gains = _gains(tracks, tracks.all_tracks(), rule[KINDS].index(kind))
     return ordered_fractions(list(gains.values()))

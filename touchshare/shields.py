@@ -1,8 +1,8 @@
 """When touches of one kind, the last ones of a journey, keep another kind from all credit."""
 
 from touchshare.errors import BadPaper
-from touchshare.needs import is_journey, need_kind, need_number
-from touchshare.rules import KINDS, need_rule
+from touchshare.needs import is_journey, need_number, need_two_kinds
+from touchshare.rules import KINDS
 from touchshare.values import is_ascending, is_paper
 from touchshare.walks import Walk
 
@@ -13,14 +13,14 @@ ENOUGH = 4
 
 def does_shield(rule, kind, other, many):
     """Whether so many last touches of the other kind shield from a kind."""
-    _need_kinds(rule, kind, other)
+    need_two_kinds(rule, kind, other)
     need_number(many, 0, MOST_LAST)
     return _has_shield(rule, kind, other, many)
 
 
 def least_shield(rule, kind, other):
     """The least number of last touches of the other kind that shields from a kind, or None."""
-    _need_kinds(rule, kind, other)
+    need_two_kinds(rule, kind, other)
     for many in range(ENOUGH + 1):
         if _has_shield(rule, kind, other, many):
             return many
@@ -29,7 +29,7 @@ def least_shield(rule, kind, other):
 
 def shield_paper(rule, kind, other, many):
     """The paper on it: ("shields", TABLE) or ("fails", JOURNEY)."""
-    _need_kinds(rule, kind, other)
+    need_two_kinds(rule, kind, other)
     need_number(many, 0, MOST_LAST)
     walk = Walk(rule)
     last = _last_touches(other, many)
@@ -42,7 +42,7 @@ def shield_paper(rule, kind, other, many):
 
 def check_shield(rule, kind, other, many, paper):
     """The word of a paper on it; BadPaper of what is none."""
-    _need_kinds(rule, kind, other)
+    need_two_kinds(rule, kind, other)
     need_number(many, 0, MOST_LAST)
     if not is_paper(paper, ("shields", "fails")):
         raise BadPaper("form")
@@ -54,12 +54,6 @@ def check_shield(rule, kind, other, many, paper):
     if word == "fails" and not _is_failing(rule, number, last, told):
         raise BadPaper("fails")
     return word
-
-
-def _need_kinds(rule, kind, other):
-    need_rule(rule)
-    need_kind(rule, kind)
-    need_kind(rule, other)
 
 
 def _last_touches(kind, many):
